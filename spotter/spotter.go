@@ -4,6 +4,8 @@ package spotter
 import (
 	"spotter/api"
 	"spotter/check"
+	"spotter/compile"
+	"spotter/program"
 )
 
 // Spotter runs a program over a stream of events.
@@ -16,10 +18,18 @@ func Check(schema string, text string) (api.Errno, int) {
 }
 
 // Compile makes a program of a pattern (P6).
-func Compile(schema string, text string) ([]api.Ins, api.Errno) { return nil, api.OK }
+func Compile(schema string, text string) ([]api.Ins, api.Errno) {
+	p, e, _ := check.Read(schema, text)
+	if e != api.OK {
+		return nil, e
+	}
+	return compile.Program(p), api.OK
+}
 
 // Valid tells whether instructions are a program (P7).
-func Valid(code []api.Ins) (api.Errno, int) { return api.OK, 0 }
+func Valid(code []api.Ins) (api.Errno, int) {
+	return program.Valid(code)
+}
 
 // Load makes a spotter that runs a program (P8).
 func Load(schema string, lim api.Limits, code []api.Ins) (*Spotter, api.Errno) { return nil, api.OK }

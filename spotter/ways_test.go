@@ -23,23 +23,37 @@ type part struct {
 type made struct {
 	kind     string
 	name     string
-	reads    []string // the terms of its tests that are fields
+	tests    [][]string // as they are written: a term, a relation, a term, and so on
+	reads    []string   // the terms of its tests that are fields
 	at       int
 	repeated bool
 	ahead    map[string]bool // by each way to it the names that are held
 }
 
 // maker makes the text of a pattern along with its parts. A plain one makes
-// few names and tests, and many rounds.
+// few names and tests, and many rounds; a careful one a row of parts, with
+// names that are new.
 type maker struct {
-	dice  dice
-	plain bool
-	text  string
-	steps []*made
+	dice    dice
+	plain   bool
+	careful bool
+	text    string
+	steps   []*made
 }
 
 func (m *maker) write(text string) {
 	m.text += strings.Repeat(" ", max(0, m.dice.roll(8)-6)) + text
+}
+
+func (m *maker) whole() *part {
+	if !m.careful {
+		return m.alt(3)
+	}
+	p := m.rep(1)
+	for n := m.dice.roll(6); n > 0; n-- {
+		p = &part{op: ',', left: p, right: m.rep(m.dice.roll(2))}
+	}
+	return p
 }
 
 func (m *maker) alt(size int) *part {
@@ -96,8 +110,11 @@ func (m *maker) step() *part {
 		m.steps = append(m.steps, s)
 		return &part{op: 's', step: s}
 	}
-	if m.dice.roll(3) == 0 {
+	if m.dice.roll(3) == 0 || m.careful && m.dice.roll(2) == 0 {
 		s.name = m.dice.pick("AAAABCDEF")
+		if m.careful {
+			s.name = m.newName()
+		}
 		m.write(s.name)
 	}
 	if m.dice.roll(3) == 0 {
@@ -113,21 +130,35 @@ func (m *maker) step() *part {
 	return &part{op: 's', step: s}
 }
 
-func (m *maker) test(s *made) {
-	m.term(s)
-	m.write(m.dice.pick("<>=#"))
-	m.term(s)
-	if m.dice.roll(4) == 0 {
-		m.write(m.dice.pick("+-*"))
-		m.term(s)
+// newName goes backwards through the letters, that their order is not that of the places.
+func (m *maker) newName() string {
+	letters := "WXYZ"
+	for _, s := range m.steps {
+		if s.name != "" && len(letters) > 1 {
+			letters = letters[:len(letters)-1]
+		}
 	}
+	return letters[len(letters)-1:]
 }
 
-func (m *maker) term(s *made) {
+func (m *maker) test(s *made) {
+	test := []string{m.term(s), m.sign("<>=#"), m.term(s)}
+	if m.dice.roll(4) == 0 {
+		test = append(test, m.sign("+-*"), m.term(s))
+	}
+	s.tests = append(s.tests, test)
+}
+
+func (m *maker) sign(signs string) string {
+	sign := m.dice.pick(signs)
+	m.write(sign)
+	return sign
+}
+
+func (m *maker) term(s *made) string {
 	switch m.dice.roll(5) {
 	case 0, 1:
-		m.write(m.dice.pick("0123456789"))
-		return
+		return m.sign("0123456789")
 	case 2, 3:
 		s.reads = append(s.reads, m.dice.pick("ttttxxxy"))
 	case 4:
@@ -137,7 +168,9 @@ func (m *maker) term(s *made) {
 		}
 		s.reads = append(s.reads, m.dice.pick(names)+m.dice.pick("ttttxxxy"))
 	}
-	m.write(s.reads[len(s.reads)-1])
+	read := s.reads[len(s.reads)-1]
+	m.write(read)
+	return read
 }
 
 // walk goes from each of the ways that lead to a part on through it.
@@ -297,7 +330,7 @@ func TestMadePatterns(t *testing.T) {
 	reads := 0
 	for i := 0; i < 60000; i++ {
 		m := &maker{dice: dice(d.roll(1 << 30)), plain: i%2 == 0}
-		whole := m.alt(3)
+		whole := m.whole()
 		if len(m.text) > api.MaxText || len(m.steps) > 30 {
 			continue
 		}
