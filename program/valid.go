@@ -1,4 +1,5 @@
-// Package program: whether instructions are a program.
+// Package program: whether instructions are a program, and where new threads
+// of one wait.
 package program
 
 import "spotter/api"

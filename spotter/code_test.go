@@ -82,5 +82,5 @@ func wantValid(t *testing.T, code []api.Ins, e api.Errno, at int) {
 }
 
 func brief(code []api.Ins) string {
-	return fmt.Sprintf("%d instructions: %.400v", len(code), code)
+	return fmt.Sprintf("%d instructions: %.400s", len(code), fmt.Sprint(code))
 }
