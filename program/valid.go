@@ -1,5 +1,5 @@
-// Package program: whether instructions are a program, and where new threads
-// of one wait.
+// Package program: whether instructions are a program, which of them lead from
+// the first to an End, and where new threads wait.
 package program
 
 import "spotter/api"

@@ -20,14 +20,24 @@ func (w *walk) reach(at int) {
 
 // leave goes the steps from an instruction to the next ones.
 func (w *walk) leave(at int) {
-	switch w.code[at].Op {
+	one, other := nextOf(w.code[at], at)
+	w.reach(one)
+	w.reach(other)
+}
+
+// nowhere: where a step leads that there is not.
+const nowhere = -1
+
+// nextOf answers where the steps from an instruction lead: for most both to the
+// same one.
+func nextOf(x api.Ins, at int) (int, int) {
+	switch x.Op {
 	case api.Jump:
-		w.reach(w.code[at].A)
+		return x.A, x.A
 	case api.Split:
-		w.reach(w.code[at].A)
-		w.reach(w.code[at].B)
+		return x.A, x.B
 	case api.End:
-	default:
-		w.reach(at + 1)
+		return nowhere, nowhere
 	}
+	return at + 1, at + 1
 }

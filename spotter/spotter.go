@@ -67,7 +67,15 @@ func (x *Spotter) Count() int {
 }
 
 // Trim leaves out the instructions that lead to no match (P11).
-func Trim(code []api.Ins) ([]api.Ins, api.Errno) { return nil, api.OK }
+func Trim(code []api.Ins) ([]api.Ins, api.Errno) {
+	return program.Trim(code)
+}
 
 // New makes a spotter for a pattern (P12).
-func New(schema string, lim api.Limits, text string) (*Spotter, api.Errno) { return nil, api.OK }
+func New(schema string, lim api.Limits, text string) (*Spotter, api.Errno) {
+	code, e := Compile(schema, text)
+	if e != api.OK {
+		return nil, e
+	}
+	return Load(schema, lim, code)
+}
